@@ -1,0 +1,1 @@
+"""Meanmoon: calendars by the mean moon and the mean year."""

@@ -1,0 +1,60 @@
+"""The interface: names, arguments, their order and default values, and where each is defined."""
+
+import importlib
+import inspect
+import unittest
+
+CLASSES = {
+    ("shares", "Share"): "(top, bottom=1)",
+    ("calendars", "Calendar"): "(month, year, moon=None, mark=None)",
+}
+
+FUNCTIONS = {
+    ("shares", "plus"): "(one, two)",
+    ("shares", "minus"): "(one, two)",
+    ("shares", "times"): "(one, two)",
+    ("shares", "over"): "(one, two)",
+    ("shares", "before"): "(one, two)",
+    ("shares", "whole"): "(share)",
+    ("calendars", "kept_form"): "(calendar)",
+}
+
+METHODS = {
+    ("calendars", "Calendar", "start"): "(self, k)",
+    ("calendars", "Calendar", "month_at"): "(self, day)",
+    ("calendars", "Calendar", "mark_day"): "(self, j)",
+    ("calendars", "Calendar", "month_with"): "(self, j)",
+    ("calendars", "Calendar", "mark_in"): "(self, k)",
+    ("calendars", "Calendar", "name_of"): "(self, k)",
+}
+
+
+def found(module, name):
+    return getattr(importlib.import_module("meanmoon." + module), name)
+
+
+class InterfaceTest(unittest.TestCase):
+    def check(self, thing, module, arguments):
+        self.assertEqual(str(inspect.signature(thing)), arguments)
+        self.assertEqual(thing.__module__, "meanmoon." + module)
+
+    def test_classes(self):
+        for (module, name), arguments in CLASSES.items():
+            with self.subTest(name=name):
+                self.assertTrue(inspect.isclass(found(module, name)))
+                self.check(found(module, name), module, arguments)
+
+    def test_functions(self):
+        for (module, name), arguments in FUNCTIONS.items():
+            with self.subTest(name=name):
+                self.assertTrue(inspect.isfunction(found(module, name)))
+                self.check(found(module, name), module, arguments)
+
+    def test_methods_stand_in_the_class_itself(self):
+        for (module, owner, name), arguments in METHODS.items():
+            with self.subTest(name=name):
+                self.check(vars(found(module, owner))[name], module, arguments)
+
+
+if __name__ == "__main__":
+    unittest.main()

@@ -1,0 +1,111 @@
+"""Some of the rules of the language in which the package is written: those that a look at each file can tell."""
+
+import ast
+import builtins
+import pathlib
+import re
+import unittest
+
+PACKAGE = pathlib.Path(__file__).resolve().parent.parent / "meanmoon"
+FILES = sorted(PACKAGE.rglob("*.py"))
+
+BARRED_WORDS = (
+    "type typing typing_extensions enum Enum IntEnum StrEnum Flag IntFlag Generic Protocol ABC ABCMeta "
+    "namedtuple NamedTuple TypedDict TYPE_CHECKING abstractmethod"
+).split()
+BUILTINS = (
+    "len range enumerate zip min max sum abs sorted reversed int str bool bytes list tuple dict set frozenset "
+    "isinstance ord repr any all divmod iter next super property staticmethod classmethod Exception ValueError "
+    "TypeError KeyError IndexError LookupError ZeroDivisionError ArithmeticError OverflowError RuntimeError "
+    "NotImplementedError AttributeError StopIteration NotImplemented object"
+).split()
+DOUBLE_UNDERSCORE = "__init__ __eq__ __repr__ __str__ __len__ __enter__ __exit__ __call__ __iter__".split()
+BARRED_NODES = (ast.Global, ast.AsyncFunctionDef, ast.AsyncFor, ast.AsyncWith, ast.Await, ast.Div, ast.MatMult)
+
+
+def walked(path):
+    return ast.walk(ast.parse(path.read_text("ascii")))
+
+
+def bound_names(tree):
+    """Tell the names that a file gives a meaning of its own."""
+    names = set()
+    for node in ast.walk(tree):
+        if isinstance(node, (ast.FunctionDef, ast.ClassDef)):
+            names.add(node.name)
+        elif isinstance(node, ast.arg):
+            names.add(node.arg)
+        elif isinstance(node, ast.alias):
+            names.add(node.asname or node.name)
+        elif isinstance(node, ast.Name) and isinstance(node.ctx, ast.Store):
+            names.add(node.id)
+        elif isinstance(node, ast.ExceptHandler) and node.name:
+            names.add(node.name)
+    return names
+
+
+def defined_names(path):
+    """Tell the names that a file defines at its module level, its imports left out."""
+    names = set()
+    for node in ast.parse(path.read_text("ascii")).body:
+        if isinstance(node, (ast.FunctionDef, ast.ClassDef)):
+            names.add(node.name)
+        elif isinstance(node, ast.Assign):
+            names.update(target.id for target in node.targets)
+    return names
+
+
+class LanguageTest(unittest.TestCase):
+    def test_there_are_files(self):
+        self.assertIn("__init__.py", [path.name for path in FILES])
+
+    def test_signs_and_sizes(self):
+        for path in FILES:
+            text = path.read_bytes().decode("ascii")
+            self.assertIsNone(re.search(r"[^ -~\n]", text), path)
+            self.assertLess(len(text.splitlines()), 400, path)
+            self.assertLessEqual(max(map(len, text.splitlines())), 120, path)
+            for word in BARRED_WORDS:
+                self.assertIsNone(re.search(rf"\b{word}\b", text), (path, word))
+            for word in ("dataclass", "overload", "contextmanager"):
+                self.assertNotIn(word, text, path)
+
+    def test_functions_are_short(self):
+        for path in FILES:
+            for node in walked(path):
+                if isinstance(node, ast.FunctionDef):
+                    self.assertLessEqual(node.end_lineno - node.lineno + 1, 40, (path, node.name))
+
+    def test_imports_name_the_file_that_defines(self):
+        for path in FILES:
+            for node in walked(path):
+                self.assertNotIsInstance(node, ast.Import, path)
+                if isinstance(node, ast.ImportFrom):
+                    self.assertTrue(node.module.startswith("meanmoon."), path)
+                    source = PACKAGE / (node.module.split(".")[1] + ".py")
+                    for alias in node.names:
+                        self.assertIn(alias.name, defined_names(source), path)
+
+    def test_statements_and_values(self):
+        for path in FILES:
+            for node in walked(path):
+                self.assertNotIsInstance(node, BARRED_NODES, path)
+                if isinstance(node, ast.Constant):
+                    self.assertNotIsInstance(node.value, (float, complex), path)
+                    self.assertNotIn("%", str(node.value), path)
+
+    def test_names(self):
+        for path in FILES:
+            tree = ast.parse(path.read_text("ascii"))
+            bound = bound_names(tree)
+            for name in bound:
+                if name not in DOUBLE_UNDERSCORE:
+                    self.assertFalse(name.startswith("_"), (path, name))
+                    self.assertFalse(hasattr(builtins, name), (path, name))
+            for node in ast.walk(tree):
+                if isinstance(node, ast.Name):
+                    self.assertTrue(node.id in bound or node.id in BUILTINS, (path, node.id))
+
+
+if __name__ == "__main__":
+    unittest.main()
