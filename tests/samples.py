@@ -68,3 +68,23 @@ def marks_in_by(kind, k, near):
         marks.append(j)
         j += 1
     return marks
+
+
+def month_by(kind, k):
+    """Tell of month k the first day, how many days it has, and its name: year, number, odd."""
+    month, year, moon, mark = kind
+    first = start_by(kind, k)
+    near = floor((first - mark) * 12 / year)
+    marks = marks_in_by(kind, k, near)
+    odd = not marks
+    if odd:
+        marks = marks_in_by(kind, k - 1, near)
+    return first, start_by(kind, k + 1) - first, (marks[0] // 12, marks[0] % 12 + 1, odd)
+
+
+def year_by(kind, number):
+    """Tell the months of a year as month_by does, by going through all that may be of it."""
+    month, year, moon, mark = kind
+    near = floor((mark + number * year - moon) / month)
+    rows = [month_by(kind, k) for k in range(near - 4, near + 18)]
+    return [row for row in rows if row[2][0] == number]

@@ -7,6 +7,8 @@ import unittest
 CLASSES = {
     ("shares", "Share"): "(top, bottom=1)",
     ("calendars", "Calendar"): "(month, year, moon=None, mark=None)",
+    ("dates", "Date"): "(year, number, day, odd=False)",
+    ("years", "Year"): "(calendar, number)",
 }
 
 FUNCTIONS = {
@@ -17,6 +19,14 @@ FUNCTIONS = {
     ("shares", "before"): "(one, two)",
     ("shares", "whole"): "(share)",
     ("calendars", "kept_form"): "(calendar)",
+    ("dates", "date_of"): "(calendar, day)",
+    ("dates", "day_of"): "(calendar, date)",
+    ("dates", "later"): "(calendar, date, days=0, months=0, years=0)",
+    ("years", "kinds"): "(calendar, first, many)",
+    ("years", "odd_years"): "(calendar, first, many)",
+    ("stretches", "lengths_from"): "(calendar, k, many)",
+    ("stretches", "days_of"): "(calendar, k, many)",
+    ("stretches", "stretches"): "(calendar, many)",
 }
 
 METHODS = {
@@ -26,6 +36,7 @@ METHODS = {
     ("calendars", "Calendar", "month_with"): "(self, j)",
     ("calendars", "Calendar", "mark_in"): "(self, k)",
     ("calendars", "Calendar", "name_of"): "(self, k)",
+    ("years", "Year", "days_in"): "(self)",
 }
 
 

@@ -106,6 +106,33 @@ class LanguageTest(unittest.TestCase):
                 if isinstance(node, ast.Name):
                     self.assertTrue(node.id in bound or node.id in BUILTINS, (path, node.id))
 
+    def test_what_is_asked_by_python_itself_assigns_nothing(self):
+        for path in FILES:
+            for node in walked(path):
+                if isinstance(node, ast.FunctionDef) and node.name in ("__eq__", "__repr__", "__str__", "__len__"):
+                    assigned = [part for part in ast.walk(node) if isinstance(part, (ast.Assign, ast.AugAssign))]
+                    self.assertEqual(assigned, [], (path, node.lineno))
+                    self.assertIsInstance(node.body[-1], ast.Return, (path, node.lineno))
+
+    def test_no_name_is_a_method_and_an_attribute(self):
+        methods, attributes = set(), set()
+        for path in FILES:
+            for node in walked(path):
+                if isinstance(node, ast.ClassDef):
+                    methods.update(part.name for part in node.body if isinstance(part, ast.FunctionDef))
+                elif isinstance(node, ast.Attribute) and isinstance(node.ctx, ast.Store):
+                    attributes.add(node.attr)
+        self.assertEqual(methods & attributes, set())
+
+    def test_no_local_name_is_that_of_a_class_or_an_import(self):
+        for path in FILES:
+            tree = ast.parse(path.read_text("ascii"))
+            taken = {node.name for node in tree.body if isinstance(node, ast.ClassDef)}
+            taken.update(alias.name for node in tree.body if isinstance(node, ast.ImportFrom) for alias in node.names)
+            for node in ast.walk(tree):
+                if isinstance(node, ast.FunctionDef):
+                    self.assertEqual(bound_names(ast.Module(node.body + [node.args], [])) & taken, set(), path)
+
 
 if __name__ == "__main__":
     unittest.main()
