@@ -37,6 +37,11 @@ def common_divisor(one, two):
     return abs(one)
 
 
+def common_multiple(one, two):
+    """Tell the least whole number above 0 that two whole numbers above 0 divide."""
+    return one // common_divisor(one, two) * two
+
+
 def numeral(number):
     """Tell the decimal figures of a whole number, with - ahead of those below 0."""
     # Written in chunks, since str refuses numbers of some thousand figures, and products may be so long.

@@ -13,7 +13,7 @@ class Year:
         k = plain_month(calendar, number, 1)
         many = months_in(calendar, number)
         self.number = number
-        self.first = calendar.start(k)
+        self.first = first_day(calendar, number)
         self.names = [calendar.name_of(n)[1:] for n in range(k, k + many)]
         self.lengths = lengths_from(calendar, k, many)
         self.odd = odd_number(self.names)
@@ -33,6 +33,16 @@ class Year:
 
     def __repr__(self):
         return f"Year({numeral(self.number)})"
+
+
+def first_day(calendar, year):
+    """Tell the first day of a year."""
+    return calendar.start(plain_month(calendar, year, 1))
+
+
+def year_with(calendar, day):
+    """Tell the number of the year that has the day."""
+    return calendar.name_of(calendar.month_at(day))[0]
 
 
 def months_in(calendar, year):

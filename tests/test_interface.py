@@ -9,6 +9,8 @@ CLASSES = {
     ("calendars", "Calendar"): "(month, year, moon=None, mark=None)",
     ("dates", "Date"): "(year, number, day, odd=False)",
     ("years", "Year"): "(calendar, number)",
+    ("shifts", "Shifted"): "(calendar, rules)",
+    ("wheels", "Wheel"): "(names, first=0)",
 }
 
 FUNCTIONS = {
@@ -27,6 +29,10 @@ FUNCTIONS = {
     ("stretches", "lengths_from"): "(calendar, k, many)",
     ("stretches", "days_of"): "(calendar, k, many)",
     ("stretches", "stretches"): "(calendar, many)",
+    ("rounds", "whole_round"): "(calendar)",
+    ("rounds", "near_rounds"): "(calendar, most)",
+    ("wheels", "meet"): "(wheels, wants, after=0)",
+    ("wheels", "meet_round"): "(wheels)",
 }
 
 METHODS = {
@@ -37,6 +43,12 @@ METHODS = {
     ("calendars", "Calendar", "mark_in"): "(self, k)",
     ("calendars", "Calendar", "name_of"): "(self, k)",
     ("years", "Year", "days_in"): "(self)",
+    ("shifts", "Shifted", "new_year"): "(self, year)",
+    ("shifts", "Shifted", "length_of"): "(self, year)",
+    ("shifts", "Shifted", "year_at"): "(self, day)",
+    ("shifts", "Shifted", "comes"): "(self, first, many)",
+    ("wheels", "Wheel", "name_on"): "(self, day)",
+    ("wheels", "Wheel", "next_named"): "(self, day, name)",
 }
 
 
