@@ -5,6 +5,7 @@ from fractions import Fraction
 
 from meanmoon.calendars import Calendar, kept_form
 from meanmoon.shares import Share, minus, plus, times
+from tests.cases import EqualCase
 from tests.samples import KINDS, calendar_of, fraction, mark_day_by, share, start_by
 
 FAR = 98765432109876543210
@@ -109,17 +110,13 @@ class FormTest(unittest.TestCase):
                 self.assertNotEqual(mark_days((month, year, 0, ahead)), mark_days(kind))
 
 
-class EqualTest(unittest.TestCase):
+class EqualTest(EqualCase):
     def alike(self, one, two):
-        self.assertIs(one == two, True)
-        self.assertIs(two == one, True)
-        self.assertIs(one != two, False)
+        EqualCase.alike(self, one, two)
         self.assertEqual(kept_form(one), kept_form(two))
 
     def unlike(self, one, two):
-        self.assertIs(one == two, False)
-        self.assertIs(two == one, False)
-        self.assertIs(one != two, True)
+        EqualCase.unlike(self, one, two)
         self.assertNotEqual(kept_form(one), kept_form(two))
 
     def test_moons(self):

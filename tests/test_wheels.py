@@ -4,6 +4,7 @@ import unittest
 
 from meanmoon.errors import NoName, NoWheel
 from meanmoon.wheels import Wheel
+from tests.cases import EqualCase
 
 FAR = 98765432109876543210
 SIXTY = [f"n{number}" for number in range(60)]
@@ -101,17 +102,7 @@ class WrittenTest(unittest.TestCase):
         self.assertEqual(repr([Wheel(["b", "a"], -2)]), "[Wheel(['b', 'a'], first=-2)]")
 
 
-class EqualTest(unittest.TestCase):
-    def alike(self, one, two):
-        self.assertIs(one == two, True)
-        self.assertIs(two == one, True)
-        self.assertIs(one != two, False)
-
-    def unlike(self, one, two):
-        self.assertIs(one == two, False)
-        self.assertIs(two == one, False)
-        self.assertIs(one != two, True)
-
+class EqualTest(EqualCase):
     def test_turned_about(self):
         for turn in range(60):
             self.alike(Wheel(SIXTY, 7), Wheel(SIXTY[turn:] + SIXTY[:turn], 7 + turn))

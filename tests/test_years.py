@@ -6,6 +6,7 @@ from meanmoon.calendars import Calendar
 from meanmoon.dates import Date, day_of
 from meanmoon.shares import Share
 from meanmoon.years import Year, kinds, odd_years
+from tests.cases import EqualCase
 from tests.samples import KINDS, calendar_of, year_by
 
 FAR = 98765432109876543210
@@ -110,17 +111,7 @@ class FieldsTest(unittest.TestCase):
         self.assertEqual(year.first + year.days_in(), Year(calendar, FAR + 1).first)
 
 
-class EqualTest(unittest.TestCase):
-    def alike(self, one, two):
-        self.assertIs(one == two, True)
-        self.assertIs(two == one, True)
-        self.assertIs(one != two, False)
-
-    def unlike(self, one, two):
-        self.assertIs(one == two, False)
-        self.assertIs(two == one, False)
-        self.assertIs(one != two, True)
-
+class EqualTest(EqualCase):
     def test_unlike_numbers(self):
         calendar = plain_calendar()
         self.alike(Year(calendar, 0), Year(calendar, 0))
