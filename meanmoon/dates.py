@@ -2,7 +2,7 @@
 
 from meanmoon.calendars import MARKS
 from meanmoon.errors import NoDate
-from meanmoon.shares import numeral
+from meanmoon.numerals import numeral
 from meanmoon.stretches import days_of
 
 

@@ -1,9 +1,7 @@
 """Shares: fractions of whole numbers, by which moments and lengths of time are told."""
 
 from meanmoon.errors import NoShare
-
-CHUNK_FIGURES = 64
-CHUNK = 10 ** 64
+from meanmoon.numerals import numeral
 
 
 class Share:
@@ -40,19 +38,6 @@ def common_divisor(one, two):
 def common_multiple(one, two):
     """Tell the least whole number above 0 that two whole numbers above 0 divide."""
     return one // common_divisor(one, two) * two
-
-
-def numeral(number):
-    """Tell the decimal figures of a whole number, with - ahead of those below 0."""
-    # Written in chunks, since str refuses numbers of some thousand figures, and products may be so long.
-    sign = "-" if number < 0 else ""
-    rest = abs(number)
-    chunks = []
-    while rest >= CHUNK:
-        chunks.append(str(rest % CHUNK).zfill(CHUNK_FIGURES))
-        rest = rest // CHUNK
-    chunks.append(sign + str(rest))
-    return "".join(reversed(chunks))
 
 
 def as_share(number):

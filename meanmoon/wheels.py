@@ -1,7 +1,8 @@
 """Wheels: rows of names that the days have in turn, round and round."""
 
 from meanmoon.errors import NoDay, NoName, NoWheel
-from meanmoon.shares import common_divisor, common_multiple, numeral
+from meanmoon.numerals import numeral
+from meanmoon.shares import common_divisor, common_multiple
 
 
 class Wheel:

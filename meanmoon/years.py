@@ -2,7 +2,7 @@
 
 from meanmoon.calendars import MARKS
 from meanmoon.dates import odd_sign, plain_month
-from meanmoon.shares import numeral
+from meanmoon.numerals import numeral
 from meanmoon.stretches import lengths_from
 
 

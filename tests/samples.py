@@ -1,6 +1,7 @@
 """Calendars for the tests, and what they must tell, reckoned from Python's fractions by going through them."""
 
 from fractions import Fraction
+from functools import lru_cache
 from math import floor
 
 from meanmoon.calendars import Calendar
@@ -82,6 +83,7 @@ def month_by(kind, k):
     return first, start_by(kind, k + 1) - first, (marks[0] // 12, marks[0] % 12 + 1, odd)
 
 
+@lru_cache(maxsize=None)
 def year_by(kind, number):
     """Tell the months of a year as month_by does, by going through all that may be of it."""
     month, year, moon, mark = kind

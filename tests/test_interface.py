@@ -11,6 +11,9 @@ CLASSES = {
     ("years", "Year"): "(calendar, number)",
     ("shifts", "Shifted"): "(calendar, rules)",
     ("wheels", "Wheel"): "(names, first=0)",
+    ("feasts", "Feast"): "(name, number, day, when='plain')",
+    ("feasts", "Feasts"): "(calendar)",
+    ("diary", "Diary"): "(calendar)",
 }
 
 FUNCTIONS = {
@@ -33,6 +36,15 @@ FUNCTIONS = {
     ("rounds", "near_rounds"): "(calendar, most)",
     ("wheels", "meet"): "(wheels, wants, after=0)",
     ("wheels", "meet_round"): "(wheels)",
+    ("feasts", "feast_days"): "(calendar, feast, year)",
+    ("beside", "carried"): "(one, two, date)",
+    ("beside", "gap"): "(one, two, years=1)",
+    ("beside", "starts_together"): "(one, two, first, many)",
+    ("texts", "figures"): "(number, base=10)",
+    ("texts", "read_figures"): "(text, base=10)",
+    ("texts", "read_share"): "(text)",
+    ("texts", "read_date"): "(text)",
+    ("texts", "read_calendar"): "(text)",
 }
 
 METHODS = {
@@ -49,6 +61,19 @@ METHODS = {
     ("shifts", "Shifted", "comes"): "(self, first, many)",
     ("wheels", "Wheel", "name_on"): "(self, day)",
     ("wheels", "Wheel", "next_named"): "(self, day, name)",
+    ("feasts", "Feasts", "add"): "(self, feast)",
+    ("feasts", "Feasts", "drop"): "(self, name)",
+    ("feasts", "Feasts", "called"): "(self)",
+    ("feasts", "Feasts", "on_day"): "(self, day)",
+    ("feasts", "Feasts", "in_year"): "(self, year)",
+    ("feasts", "Feasts", "next_feast"): "(self, day, name=None)",
+    ("diary", "Diary", "note"): "(self, date, text)",
+    ("diary", "Diary", "strike"): "(self, date, at)",
+    ("diary", "Diary", "moved"): "(self, date, other)",
+    ("diary", "Diary", "undo"): "(self)",
+    ("diary", "Diary", "notes_on"): "(self, date)",
+    ("diary", "Diary", "noted"): "(self, year)",
+    ("diary", "Diary", "in_all"): "(self)",
 }
 
 

@@ -20,6 +20,12 @@ BUILTINS = (
     "NotImplementedError AttributeError StopIteration NotImplemented object"
 ).split()
 DOUBLE_UNDERSCORE = "__init__ __eq__ __repr__ __str__ __len__ __enter__ __exit__ __call__ __iter__".split()
+METHODS = (
+    "append clear copy count endswith extend find get index insert isalnum isalpha isdigit islower isspace isupper "
+    "items join keys ljust lower lstrip partition pop remove replace reverse rfind rjust rpartition rsplit rstrip "
+    "setdefault split splitlines startswith strip update upper values zfill bit_length removeprefix removesuffix"
+).split()
+TAKE_LISTS = "any all min max sum sorted".split()
 BARRED_NODES = (ast.Global, ast.AsyncFunctionDef, ast.AsyncFor, ast.AsyncWith, ast.Await, ast.Div, ast.MatMult)
 
 
@@ -55,6 +61,17 @@ def defined_names(path):
     return names
 
 
+def methods_of(path):
+    """Tell the names of the methods that the classes of a file define."""
+    classes = [node for node in walked(path) if isinstance(node, ast.ClassDef)]
+    return {part.name for node in classes for part in node.body if isinstance(part, ast.FunctionDef)}
+
+
+def imported_files(path):
+    """Tell the files of the package from which a file imports."""
+    return [PACKAGE / (node.module.split(".")[1] + ".py") for node in walked(path) if isinstance(node, ast.ImportFrom)]
+
+
 class LanguageTest(unittest.TestCase):
     def test_there_are_files(self):
         self.assertIn("__init__.py", [path.name for path in FILES])
@@ -86,6 +103,28 @@ class LanguageTest(unittest.TestCase):
                     for alias in node.names:
                         self.assertIn(alias.name, defined_names(source), path)
 
+    def test_no_file_imports_itself_by_way_of_others(self):
+        for path in FILES:
+            seen, ahead = set(), imported_files(path)
+            while ahead:
+                seen.add(ahead[-1])
+                ahead = ahead[:-1] + [file for file in imported_files(ahead[-1]) if file not in seen]
+            self.assertNotIn(path, seen)
+
+    def test_methods_that_are_called(self):
+        own = {name for path in FILES for name in methods_of(path)}
+        for path in FILES:
+            for node in walked(path):
+                if isinstance(node, ast.Call) and isinstance(node.func, ast.Attribute):
+                    self.assertIn(node.func.attr, own.union(METHODS), (path, node.lineno))
+
+    def test_what_goes_through_all_takes_lists(self):
+        for path in FILES:
+            for node in walked(path):
+                if isinstance(node, ast.Call) and isinstance(node.func, ast.Name) and node.func.id in TAKE_LISTS:
+                    for part in node.args:
+                        self.assertNotIsInstance(part, ast.GeneratorExp, (path, node.lineno))
+
     def test_statements_and_values(self):
         for path in FILES:
             for node in walked(path):
@@ -93,6 +132,16 @@ class LanguageTest(unittest.TestCase):
                 if isinstance(node, ast.Constant):
                     self.assertNotIsInstance(node.value, (float, complex), path)
                     self.assertNotIn("%", str(node.value), path)
+
+    def test_attributes_that_are_read_are_assigned(self):
+        attributes = {node.attr for path in FILES for node in walked(path)
+                      if isinstance(node, ast.Attribute) and isinstance(node.ctx, ast.Store)}
+        for path in FILES:
+            called = [node.func for node in walked(path) if isinstance(node, ast.Call)]
+            lines = [(node.attr, node.lineno, node.col_offset) for node in called if isinstance(node, ast.Attribute)]
+            for node in walked(path):
+                if isinstance(node, ast.Attribute) and (node.attr, node.lineno, node.col_offset) not in lines:
+                    self.assertIn(node.attr, attributes, (path, node.lineno))
 
     def test_names(self):
         for path in FILES:
@@ -117,10 +166,9 @@ class LanguageTest(unittest.TestCase):
     def test_no_name_is_a_method_and_an_attribute(self):
         methods, attributes = set(), set()
         for path in FILES:
+            methods.update(methods_of(path))
             for node in walked(path):
-                if isinstance(node, ast.ClassDef):
-                    methods.update(part.name for part in node.body if isinstance(part, ast.FunctionDef))
-                elif isinstance(node, ast.Attribute) and isinstance(node.ctx, ast.Store):
+                if isinstance(node, ast.Attribute) and isinstance(node.ctx, ast.Store):
                     attributes.add(node.attr)
         self.assertEqual(methods & attributes, set())
 

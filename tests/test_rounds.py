@@ -75,7 +75,8 @@ class WholeRoundTest(unittest.TestCase):
         self.assertEqual(days, years * fraction(year))
         # The tops have no divisor in common.
         self.assertEqual(days, 29530588853123456789 * 36524218967012345679)
-        self.assertEqual(whole_round(Calendar(FAR, FAR * 12 + 5)), (FAR * (FAR * 12 + 5) // 5, (FAR * 12 + 5) // 5, FAR // 5))
+        year = FAR * 12 + 5
+        self.assertEqual(whole_round(Calendar(FAR, year)), (FAR * year // 5, year // 5, FAR // 5))
 
     def test_by_keyword_and_kinds(self):
         told = whole_round(calendar=Calendar(Share(59, 2), 365))

@@ -168,8 +168,9 @@ class WrittenTest(unittest.TestCase):
 class KindsTest(unittest.TestCase):
     def test_few_years(self):
         told = kinds(plain_calendar(), 0, 5)
+        due = [(Year(plain_calendar(), number), often) for number, often in ((0, 2), (2, 1), (3, 2))]
         self.assertEqual([(told_of(year), often) for year, often in told],
-                         [(told_of(Year(plain_calendar(), number)), often) for number, often in ((0, 2), (2, 1), (3, 2))])
+                         [(told_of(year), often) for year, often in due])
         self.assertEqual({type(row) for row in told}, {tuple})
         self.assertEqual({type(row[0]) for row in told}, {Year})
 
